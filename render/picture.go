@@ -13,10 +13,6 @@ type picture map[position]Cell
 // painted returns the picture of those places that are in some of the rows.
 func painted(v View, places []position, first, rows, columns int) picture {
 	x := picture{}
-	// Ahead of the runes: a caret also shows where no rune takes its cell.
-	for _, s := range v.Sels {
-		x[places[s.Head]] = Cell{Rune: space, Style: atCaret}
-	}
 	styles := stylesOf(v)
 	for i, p := range places {
 		if p[0] < first || p[0] >= first+rows {
@@ -31,11 +27,12 @@ func painted(v View, places []position, first, rows, columns int) picture {
 	return x
 }
 
-// put makes n cells, from a position on, those of a rune. A caret that is at
-// the position is at all of them.
+// put makes n cells, from a position on, those of a rune, with the styles of
+// the runes of width 0 ahead of it that have the same position. Where n is 0,
+// the style of the rune still needs its cell: what is behind may not take it.
 func (x picture) put(p position, n int, c Cell) {
 	c.Style |= x[p].Style
-	for range n {
+	for range max(n, 1) {
 		x[p] = c
 		p[1]++
 		c.Rune = 0
@@ -50,10 +47,11 @@ func (x picture) cell(p position) Cell {
 	return Cell{Rune: space}
 }
 
-// shown returns how a rune is shown that takes columns.
+// shown returns how a rune is shown. One of width 0 is not: its cell has a space
+// unless the rune behind it takes that cell.
 func shown(r rune, columns int) rune {
 	switch {
-	case r == newLine:
+	case r == newLine, width.Of(r) == 0:
 		return space
 	case r < space, 127 <= r && r <= 159, width.Of(r) > columns:
 		return unknown

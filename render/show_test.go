@@ -114,7 +114,7 @@ func TestShowAllRunes(t *testing.T) {
 			want[0].Rune = 32
 			end = columns // that of the next row
 		case w == 0:
-			want[0] = Cell{Rune: 32}
+			want[0].Rune = 32
 			end = 0
 		case w == 2 && columns == 1:
 			want[0].Rune = '?'
@@ -182,16 +182,16 @@ func TestShowSelections(t *testing.T) {
 		{"a wide rune, backward", "a中b", of(2, 1), nil, 1, 5, []string{"a中_b ", "05500"}},
 		{"a wide rune in the next row: nothing where it had no room", "a中b", of(0, 3), nil, 3, 2, []string{"a ", "10", "中_", "11", "b ", "14"}},
 		{"a wide rune in the only column", "中a", of(1, 0), nil, 3, 1, []string{"?", "5", "a", "0", " ", "0"}},
-		{"a rune of width 0 takes no cell", "a\u0301bc", of(2, 1), nil, 1, 5, []string{"abc  ", "04000"}},
-		{"a rune of width 0, the caret behind it", "a\u0301bc", of(1, 2), nil, 1, 5, []string{"abc  ", "04000"}},
-		{"several of width 0", "a\u0301\u0301\u0301b", of(1, 4), nil, 1, 4, []string{"ab  ", "0400"}},
-		{"one of width 0, another caret first", "a\u0301b", of(3, 3, 1, 2), nil, 1, 4, []string{"ab  ", "0440"}},
-		{"a rune, and one of width 0 behind it", "e\u0301f", of(0, 2), nil, 1, 4, []string{"ef  ", "1400"}},
+		{"a rune of width 0", "a\u0301bc", of(2, 1), nil, 1, 5, []string{"abc  ", "05000"}},
+		{"a rune of width 0, the caret behind it", "a\u0301bc", of(1, 2), nil, 1, 5, []string{"abc  ", "05000"}},
+		{"several of width 0", "a\u0301\u0301\u0301b", of(1, 4), nil, 1, 4, []string{"ab  ", "0500"}},
+		{"one of width 0, another caret first", "a\u0301b", of(3, 3, 1, 2), nil, 1, 4, []string{"ab  ", "0540"}},
+		{"a rune, and one of width 0 behind it", "e\u0301f", of(0, 2), nil, 1, 4, []string{"ef  ", "1500"}},
 		{"one of width 0, and the rune behind it", "e\u0301f", of(1, 3), nil, 1, 4, []string{"ef  ", "0140"}},
 		{"one of width 0, and the rune behind it, backward", "e\u0301f", of(3, 1), nil, 1, 4, []string{"ef  ", "0500"}},
 		{"the rune behind one of width 0 alone", "e\u0301f", of(3, 2), nil, 1, 4, []string{"ef  ", "0500"}},
-		{"one of width 0 ahead of a rune 10", "a\u0301\nb", of(1, 2), nil, 2, 3, []string{"a  ", "040", "b  ", "000"}},
-		{"one of width 0 at last", "a\u0301", of(1, 2), nil, 1, 3, []string{"a  ", "040"}},
+		{"one of width 0 ahead of a rune 10", "a\u0301\nb", of(1, 2), nil, 2, 3, []string{"a  ", "050", "b  ", "000"}},
+		{"one of width 0 at last", "a\u0301", of(1, 2), nil, 1, 3, []string{"a  ", "050"}},
 		{"a rune below 32", "\ta", of(0, 1), nil, 1, 3, []string{"?a ", "140"}},
 	})
 }
@@ -265,8 +265,8 @@ func TestShowACaretWhereNoRuneTakesTheCell(t *testing.T) {
 		{"a caret behind it", "a\u0301中", of(2, 2), nil, 3, 2, []string{"a ", "00", "中_", "44", "  ", "00"}},
 		{"the second of two", "a\u0301\u0301中", of(2, 2), nil, 3, 2, []string{"a ", "04", "中_", "00", "  ", "00"}},
 		{"no room in one row: the caret is on the grid", "a\u0301中", of(1, 1), nil, 1, 2, []string{"a ", "04"}},
-		{"selected and in a field, which a rune without a cell is not", "a\u0301中", of(2, 1), []api.Span{{From: 1, To: 2}}, 2, 2, []string{"a ", "04", "中_", "00"}},
-		{"selected, all of it", "a\u0301中", of(0, 3), []api.Span{{From: 0, To: 3}}, 3, 2, []string{"a ", "30", "中_", "33", "  ", "40"}},
+		{"selected and in a field", "a\u0301中", of(2, 1), []api.Span{{From: 1, To: 2}}, 2, 2, []string{"a ", "07", "中_", "00"}},
+		{"selected, all of it", "a\u0301中", of(0, 3), []api.Span{{From: 0, To: 3}}, 3, 2, []string{"a ", "33", "中_", "33", "  ", "40"}},
 		{"another caret there, above what is shown", "a\u0301中", of(3, 3, 1, 1), nil, 2, 2, []string{"中_", "00", "  ", "40"}},
 	})
 }
@@ -301,11 +301,11 @@ func TestShowSpans(t *testing.T) {
 		{"a wide rune: both cells", "ab中c", far, []api.Span{{From: 2, To: 3}}, 1, 6, []string{"ab中_c ", "002204"}},
 		{"over a wide rune", "ab中c", far, []api.Span{{From: 1, To: 4}}, 1, 6, []string{"ab中_c ", "022224"}},
 		{"a wide rune in the only column", "a中", of(2, 2), []api.Span{{From: 1, To: 2}}, 3, 1, []string{"a", "0", "?", "2", " ", "4"}},
-		{"a rune of width 0 takes no cell", "a\u0301bc", far, []api.Span{{From: 1, To: 2}}, 1, 5, []string{"abc  ", "00040"}},
-		{"several of width 0", "a\u0301\u0301c", far, []api.Span{{From: 1, To: 3}}, 1, 5, []string{"ac   ", "00400"}},
-		{"one of width 0, ahead of a rune 10", "a\u0301\nc", far, []api.Span{{From: 1, To: 2}}, 2, 3, []string{"a  ", "000", "c  ", "040"}},
-		{"one of width 0 at last", "abc\u0301", far, []api.Span{{From: 3, To: 4}}, 1, 5, []string{"abc  ", "00040"}},
-		{"a rune and one of width 0 behind it", "ab\u0301c", far, []api.Span{{From: 1, To: 3}}, 1, 5, []string{"abc  ", "02040"}},
+		{"a rune of width 0", "a\u0301bc", far, []api.Span{{From: 1, To: 2}}, 1, 5, []string{"abc  ", "02040"}},
+		{"several of width 0", "a\u0301\u0301c", far, []api.Span{{From: 1, To: 3}}, 1, 5, []string{"ac   ", "02400"}},
+		{"one of width 0, ahead of a rune 10", "a\u0301\nc", far, []api.Span{{From: 1, To: 2}}, 2, 3, []string{"a  ", "020", "c  ", "040"}},
+		{"one of width 0 at last", "abc\u0301", far, []api.Span{{From: 3, To: 4}}, 1, 5, []string{"abc  ", "00060"}},
+		{"a rune and one of width 0 behind it", "ab\u0301c", far, []api.Span{{From: 1, To: 3}}, 1, 5, []string{"abc  ", "02240"}},
 		{"one of width 0 and the rune behind it", "ab\u0301c", far, []api.Span{{From: 2, To: 4}}, 1, 5, []string{"abc  ", "00240"}},
 	})
 }

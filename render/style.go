@@ -12,7 +12,7 @@ const (
 	atCaret  = 4
 )
 
-// stylesOf returns the style of each place of a text, without the carets.
+// stylesOf returns the style of each place of a text, the end included.
 func stylesOf(v View) []int {
 	var spans []api.Span
 	for _, s := range v.Sels {
@@ -27,6 +27,9 @@ func stylesOf(v View) []int {
 		if fields[i] {
 			l[i] += inField
 		}
+	}
+	for _, s := range v.Sels {
+		l[s.Head] |= atCaret // more than one may be there
 	}
 	return l
 }

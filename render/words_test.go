@@ -68,7 +68,7 @@ func wordsRight(v View, rows, columns int) bool {
 	return true
 }
 
-// wordsStyle tells the style of the cells of place i.
+// wordsStyle tells the style that a cell has by place i, which has it.
 func wordsStyle(v View, at []api.Span, i int) int {
 	in, field, caret := 0, 0, 0
 	for _, s := range v.Sels {
@@ -96,26 +96,23 @@ func wordsRune(r rune, n int) rune {
 	return r
 }
 
-// wordsAll tells the cells of all rows that a text has, and of some more.
+// wordsAll tells the cells of all rows that a text has, and of some more: of
+// each cell the styles of all places with its row and column, then the runes.
 func wordsAll(v View, at []api.Span, columns, more int) [][]Cell {
 	all := make([][]Cell, at[len(v.Text)].From+1+more)
 	for i := range all {
 		all[i] = slices.Repeat([]Cell{{Rune: 32}}, columns)
 	}
 	for i, p := range at {
-		style := wordsStyle(v, at, i)
-		cells := all[p.From][p.To:]
-		if i == len(v.Text) || v.Text[i] == 10 {
-			cells[0] = Cell{Rune: 32, Style: style}
-			continue
-		}
-		switch n := wordsTaken(v.Text[i], columns); n {
-		case 0:
-			cells[0].Style = style &^ 3 // its cell, which it does not take: a caret alone is there
-		case 1:
-			cells[0] = Cell{Rune: wordsRune(v.Text[i], n), Style: style}
-		case 2:
-			cells[0], cells[1] = Cell{Rune: wordsRune(v.Text[i], n), Style: style}, Cell{Style: style}
+		all[p.From][p.To].Style |= wordsStyle(v, at, i)
+	}
+	for i, r := range v.Text {
+		cells := all[at[i].From][at[i].To:]
+		if n := wordsTaken(r, columns); r != 10 && n > 0 {
+			cells[0].Rune = wordsRune(r, n)
+			if n == 2 {
+				cells[1] = Cell{Style: cells[0].Style}
+			}
 		}
 	}
 	return all

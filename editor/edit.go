@@ -62,9 +62,10 @@ func settled(at int, change api.Edit, before, after session.State) int {
 	return min(now.From+at-moved.From, now.To)
 }
 
-// edited makes the change that an edit comes to.
+// edited makes the change that an edit comes to. To kill nothing is none, so that
+// what was killed last stays then.
 func (e *Editor) edited(c edit, killed []rune, s undo.State) api.Errno {
-	if (c.kind == multi.KillWord || c.kind == multi.KillLine) && len(killed) > 0 {
+	if c.kind == multi.KillWord || c.kind == multi.KillLine {
 		e.killed = killed
 	}
 	e.place = e.ring.Len()

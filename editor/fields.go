@@ -16,10 +16,9 @@ func (e *Editor) opened(s undo.State) (session.State, bool) {
 		return session.State{}, false
 	}
 	x := session.State{Text: s.Text, Fields: slices.Clone(e.begun[s.Session])}
-	n := len(x.Fields)
-	for i := range x.Fields {
+	for i, rest := range s.Spans[len(x.Fields):] {
 		x.Fields[i].Span = s.Spans[i]
-		x.Fields[i].Up, x.Active = s.Spans[n+i].From, s.Spans[n+i].To
+		x.Fields[i].Up, x.Active = rest.From, rest.To
 	}
 	return x, true
 }
